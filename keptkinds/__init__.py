@@ -1,0 +1,1 @@
+"""Keptkinds: judging small languages given as tables."""
