@@ -7,12 +7,17 @@ the least of their states, and it is found by putting known rows together.
 """
 
 
-def rows_over(items, places):
-    """All tuples of this many items, the first place deciding their order first."""
+def rows_from(lists):
+    """All tuples of one item of each list, the first place deciding their order first."""
     rows = [()]
-    for _ in range(places):
+    for items in lists:
         rows = [(*row, one) for row in rows for one in items]
     return rows
+
+
+def rows_over(items, places):
+    """All tuples of this many items, the first place deciding their order first."""
+    return rows_from([items for _ in range(places)])
 
 
 def fresh_picks(places, count):

@@ -2,7 +2,7 @@
 import inspect
 import unittest
 
-from keptkinds import books, errors, languages, terms
+from keptkinds import books, errors, languages, layers, mending, tables, terms, verdicts
 from tests import samples
 
 ERROR_FIELDS = {
@@ -28,6 +28,8 @@ OWN_METHODS = {
     languages.Language: [
         "__init__", "signature", "book", "rules", "active", "is_value", "steps", "kept_step", "run",
     ],
+    tables.Table: ["__init__", "term_rows", "value_rows", "first_symbols"],
+    verdicts.Verdict: ["sound", "stuck", "lost", "witness", "cases"],
 }
 
 
@@ -59,6 +61,8 @@ class Names(unittest.TestCase):
             (samples.signature(), "symbols"), (language.book, "entries"), (language.book, "kinds"),
             (language.book, "under"), (language.book, "signature"),
             (language, "rules"), (language, "book"), (language, "signature"),
+            *((tables.Table(language), name) for name in ("term_rows", "value_rows")),
+            *((verdicts.judge(language), name) for name in OWN_METHODS[verdicts.Verdict]),
         ):
             with self.subTest(name), self.assertRaises(AttributeError):
                 setattr(held, name, ())
@@ -68,6 +72,10 @@ class Names(unittest.TestCase):
             (terms, ["Signature", "make", "terms"]),
             (books, ["Book", "Checker", "parting"]),
             (languages, ["Language"]),
+            (tables, ["Table"]),
+            (verdicts, ["Verdict", "judge", "uses", "ambiguous"]),
+            (mending, ["all_changes", "changed", "repairs", "harmless"]),
+            (layers, ["judge_on_top"]),
         ):
             for name in names:
                 self.assertEqual(getattr(module, name).__module__, module.__name__)
@@ -93,6 +101,16 @@ class Names(unittest.TestCase):
             (languages.Language.steps, "(self, term)"),
             (languages.Language.kept_step, "(self, term)"),
             (languages.Language.run, "(self, term, *, most=20)"),
+            (tables.Table, "(language)"),
+            (tables.Table.first_symbols, "(self, kind)"),
+            (verdicts.judge, "(language)"),
+            (verdicts.uses, "(language)"),
+            (verdicts.ambiguous, "(language)"),
+            (mending.all_changes, "(language)"),
+            (mending.changed, "(language, *changes)"),
+            (mending.repairs, "(language, candidates, *, most=2)"),
+            (mending.harmless, "(language, name)"),
+            (layers.judge_on_top, "(base, language)"),
         ):
             with self.subTest(called=called):
                 self.assertEqual(str(inspect.signature(called)), wanted)
@@ -103,12 +121,16 @@ class Names(unittest.TestCase):
     def test_kinds_of_values(self):
         language = samples.language()
         book = language.book
+        table = tables.Table(language)
+        used = verdicts.uses(language)
         for value in (
             language.rules, language.signature.symbols, book.kinds, book.entries, book.under,
             book["zero", ()], book.kinds_of(samples.ZERO), book.combine("zero", []), language.active(samples.fst(samples.ONE)),
+            table.term_rows, table.value_rows, *table.term_rows, *table.value_rows, table.first_symbols("nat"),
+            used, *used, *used[0], *used[1], *used[2], mending.all_changes(language), mending.harmless(language, "succ"),
         ):
             self.assertIs(type(value), tuple)
-        for value in (language.steps(samples.ONE), language.run(samples.ONE)):
+        for value in (language.steps(samples.ONE), language.run(samples.ONE), mending.repairs(language, [])):
             self.assertIs(type(value), list)
         for value in (language.is_value(samples.ONE), samples.ONE in book, book.is_under("nat", "num"), book <= book):
             self.assertIs(value, True)
