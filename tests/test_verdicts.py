@@ -192,6 +192,36 @@ class Lost(unittest.TestCase):
             ("turn", END, whole, END), 0, ("tri", whole, END, END), "p"))
 
 
+class LeastOfARule(unittest.TestCase):
+    """Of the terms that one rule makes, the first one by the rows of its variables need not be the least."""
+
+    SYMBOLS = [("end", 0, True, ()), ("box", 1, True, ()), ("pair", 2, True, ()), ("tri", 3, True, ()), ("two", 2, False, ())]
+    BOX = ("box", END)
+
+    def compare(self, entries, rule, least, after):
+        made = lazy([("end", (), "p"), ("box", ("p",), "q")] + entries, [rule], kinds="pqr", symbols=self.SYMBOLS)
+        self.assertEqual(judge(made).lost, (least, 0, after, "p"))
+        self.assertEqual(uses(made)[1], ((0, least),))
+        self.assertEqual(plain.lost(made, 7), (least, 0, after, "p"))
+
+    def test_a_smaller_term(self):
+        # two(end, tri(..)) has the lesser first part, but it is larger.
+        entries = [("tri", ("q", "q", "q"), "r"), ("two", ("p", "r"), "p"), ("two", ("q", "q"), "p")]
+        self.compare(entries, (("two", "x", "y"), ("box", "x")), ("two", self.BOX, self.BOX), ("box", self.BOX))
+
+    def test_terms_of_equal_sizes(self):
+        # Both have 7 symbols, and pair(box(end), end) is smaller than pair(end, box(box(end))).
+        entries = [("box", ("q",), "r"), ("pair", ("p", "r"), "p"), ("pair", ("q", "p"), "q"),
+                   ("two", ("p", "p"), "p"), ("two", ("q", "q"), "p")]
+        self.compare(
+            entries, (("two", ("pair", "x", "y"), "z"), ("box", "z")),
+            ("two", ("pair", self.BOX, END), self.BOX), ("box", self.BOX))
+
+    def test_the_lesser_first_part(self):
+        entries = [("box", ("q",), "r"), ("two", ("q", "q"), "p"), ("two", ("p", "r"), "p")]
+        self.compare(entries, (("two", "y", "x"), ("box", "x")), ("two", END, ("box", self.BOX)), ("box", ("box", self.BOX)))
+
+
 class Witness(unittest.TestCase):
     def test_the_stuck_term_comes_first(self):
         made = judge(language([(("fst", ("pair", "x", "y")), ("pair", "y", "x"))]))
